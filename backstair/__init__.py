@@ -1,0 +1,1 @@
+"""Backstair: machines that run both ways."""

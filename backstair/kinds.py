@@ -1,0 +1,16 @@
+"""What counts as a number, for all that the program is passed."""
+
+
+def is_number(value, low, high):
+    """Return whether a value is an integer from `low` to `high`."""
+    # Python takes True and False for 1 and 0, but they are no integers here.
+    if isinstance(value, bool) or not isinstance(value, int):
+        return False
+    return low <= value <= high
+
+
+def are_numbers(value, low, high):
+    """Return whether a value is a tuple of integers from `low` to `high`."""
+    if not isinstance(value, tuple):
+        return False
+    return all([is_number(item, low, high) for item in value])

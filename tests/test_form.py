@@ -1,0 +1,92 @@
+"""The interface, and what can be counted of the form of the package's files."""
+
+import ast
+import pathlib
+import unittest
+
+FOLDER = pathlib.Path(__file__).resolve().parent.parent / "backstair"
+ERRORS = ["BackError", "BadMachine", "BadMark", "BadText", "Clash", "BadPast", "BadProgram", "BadStore", "TooLong",
+          "Refused", "BadNet", "BadBits", "BadTable", "NotClean", "NotStraight", "BadParts", "BadBlocks"]
+# For each file its functions with their parameters; for each class its methods with theirs, without self.
+FUNCTIONS = {
+    "tape": {"trimmed": ["marks"]},
+    "written": {"text_of": ["machine"], "machine_of": ["text"]},
+}
+CLASSES = {
+    ("tape", "Tape"): {"__init__": ["marks", "states", "rows"], "row": ["state", "mark"], "table": [],
+                       "is_configuration": ["value"], "stopped": ["configuration"], "begin": ["word"],
+                       "step": ["configuration"], "run": ["configuration", "steps"]},
+}
+
+
+def tree_of(name):
+    """Return the parsed text of a file of the package."""
+    return ast.parse((FOLDER / f"{name}.py").read_text(encoding="utf-8"))
+
+
+def defined(body, kind):
+    """Return the dict of the functions or classes that stand in a body."""
+    return {part.name: part for part in body if isinstance(part, kind)}
+
+
+def parameters(function):
+    """Return the names of a function's parameters."""
+    return [part.arg for part in function.args.args]
+
+
+def imported(name):
+    """Return the names of the package's files from which a file imports."""
+    parts = [part for part in ast.walk(tree_of(name)) if isinstance(part, (ast.Import, ast.ImportFrom))]
+    return [(part.module or "").removeprefix("backstair.") if isinstance(part, ast.ImportFrom) else "" for part in parts]
+
+
+class Interface(unittest.TestCase):
+    def test_functions_stand_in_their_files(self):
+        for name, functions in FUNCTIONS.items():
+            found = defined(tree_of(name).body, ast.FunctionDef)
+            for function, names in functions.items():
+                self.assertIn(function, found, name)
+                self.assertEqual(parameters(found[function]), names, function)
+
+    def test_classes_have_their_methods_themselves(self):
+        for (name, known), methods in CLASSES.items():
+            found = defined(defined(tree_of(name).body, ast.ClassDef)[known].body, ast.FunctionDef)
+            for method, names in methods.items():
+                self.assertIn(method, found, known)
+                self.assertEqual(parameters(found[method])[1:], names, method)
+
+    def test_errors_stand_in_their_file(self):
+        found = defined(tree_of("errors").body, ast.ClassDef)
+        for error in ERRORS:
+            self.assertIn(error, found)
+
+
+class Form(unittest.TestCase):
+    def files(self):
+        return sorted(FOLDER.glob("*.py"))
+
+    def test_sizes_and_signs(self):
+        for path in self.files():
+            text = path.read_text(encoding="ascii")
+            lines = text.split("\n")
+            self.assertLessEqual(len(lines), 400, path.name)
+            self.assertLessEqual(max(len(line) for line in lines), 120, path.name)
+            self.assertTrue(all(sign == "\n" or " " <= sign <= "~" for sign in text), path.name)
+            for part in ast.walk(ast.parse(text)):
+                if isinstance(part, ast.FunctionDef):
+                    self.assertLessEqual(part.end_lineno - part.lineno + 1, 40, part.name)
+
+    def test_no_two_files_import_from_each_other(self):
+        names = [path.stem for path in self.files()]
+        left = {name: imported(name) for name in names}
+        for name, others in left.items():
+            for other in others:
+                self.assertIn(other, names, f"{name} imports from outside the package")
+        while left:
+            free = [name for name, others in left.items() if not any(other in left for other in others)]
+            self.assertTrue(free, f"a ring of imports: {sorted(left)}")
+            left = {name: others for name, others in left.items() if name not in free}
+
+    def test_the_folder_contains_nothing_else(self):
+        for path in FOLDER.iterdir():
+            self.assertTrue(path.suffix == ".py" or path.name == "__pycache__", path.name)

@@ -11,11 +11,18 @@ ERRORS = ["BackError", "BadMachine", "BadMark", "BadText", "Clash", "BadPast", "
 FUNCTIONS = {
     "tape": {"trimmed": ["marks"]},
     "written": {"text_of": ["machine"], "machine_of": ["text"]},
+    "forget": {"clashes": ["machine"], "forgets": ["machine"], "before": ["machine", "configuration"]},
+    "inverse": {"clash": ["machine"], "witness": ["machine"], "inverse": ["machine"]},
+    "plain": {"plain": ["machine"], "joined": ["first", "state", "second"]},
 }
 CLASSES = {
     ("tape", "Tape"): {"__init__": ["marks", "states", "rows"], "row": ["state", "mark"], "table": [],
                        "is_configuration": ["value"], "stopped": ["configuration"], "begin": ["word"],
                        "step": ["configuration"], "run": ["configuration", "steps"]},
+    ("several", "Several"): {"__init__": ["tapes", "marks", "states", "rows"], "table": [],
+                             "is_configuration": ["value"], "stopped": ["configuration"], "begin": ["words"],
+                             "step": ["configuration"], "back": ["configuration"],
+                             "run": ["configuration", "steps"], "run_back": ["configuration", "steps"]},
 }
 
 
@@ -37,7 +44,7 @@ def parameters(function):
 def imported(name):
     """Return the names of the package's files from which a file imports."""
     parts = [part for part in ast.walk(tree_of(name)) if isinstance(part, (ast.Import, ast.ImportFrom))]
-    return [(part.module or "").removeprefix("backstair.") if isinstance(part, ast.ImportFrom) else "" for part in parts]
+    return [(getattr(part, "module", None) or "").removeprefix("backstair.") for part in parts]
 
 
 class Interface(unittest.TestCase):

@@ -174,7 +174,8 @@ class Texts(unittest.TestCase):
         self.refused(COUNTER.replace("\n", " "), 1)
 
     def test_every_text_with_one_sign_changed(self):
-        for text in [COUNTER, "tape 2 1\n0 0 stop\n0 1 > 0 right 0\n", "tape 3 1\n0 0 > 2 left 0\n0 1 stop\n0 2 stop\n"]:
+        for text in [COUNTER, "tape 2 1\n0 0 stop\n0 1 > 0 right 0\n",
+                     "tape 3 1\n0 0 > 2 left 0\n0 1 stop\n0 2 stop\n"]:
             for at in range(len(text) + 1):
                 self.agrees(text[:at] + text[at + 1:])
                 for sign in "012349 >\n-+rst\t":

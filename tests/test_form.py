@@ -14,6 +14,11 @@ FUNCTIONS = {
     "forget": {"clashes": ["machine"], "forgets": ["machine"], "before": ["machine", "configuration"]},
     "inverse": {"clash": ["machine"], "witness": ["machine"], "inverse": ["machine"]},
     "plain": {"plain": ["machine"], "joined": ["first", "state", "second"]},
+    "history": {"undone": ["machine", "configuration", "pair"], "trail": ["machine", "configuration", "past"],
+                "past_of": ["machine", "configuration", "steps"]},
+    "clean": {"answer_of": ["configuration"], "clean": ["machine"], "clean_begin": ["configuration"],
+              "clean_end": ["machine", "configuration", "answer"], "clean_steps": ["steps", "marks"],
+              "shown": ["machine", "configuration"], "lent": ["configuration"]},
 }
 CLASSES = {
     ("tape", "Tape"): {"__init__": ["marks", "states", "rows"], "row": ["state", "mark"], "table": [],
@@ -23,6 +28,9 @@ CLASSES = {
                              "is_configuration": ["value"], "stopped": ["configuration"], "begin": ["words"],
                              "step": ["configuration"], "back": ["configuration"],
                              "run": ["configuration", "steps"], "run_back": ["configuration", "steps"]},
+    ("history", "History"): {"__init__": ["machine"], "down": ["configuration", "past"], "up": ["configuration"],
+                             "pace": ["configuration"]},
+    ("lang", "Program"): {"__init__": ["width", "variables", "procedures"], "body": ["name"]},
 }
 
 

@@ -23,11 +23,6 @@ def is_name(value):
     return all(["a" <= letter <= "z" for letter in value]) and value not in WORDS
 
 
-def is_word_of(value, words):
-    """Return whether a value is one of these words."""
-    return isinstance(value, str) and value in words
-
-
 def is_variables(value):
     """Return whether a value is a tuple of 1 to 6 different names."""
     if not isinstance(value, tuple) or not 1 <= len(value) <= MOST_VARIABLES:
@@ -46,7 +41,7 @@ class Checker:
 
     def is_variable(self, value):
         """Return whether a value is a variable of the program."""
-        return is_word_of(value, self.variables)
+        return value in self.variables
 
     def is_atom(self, value):
         """Return whether a value is a number that fits, or a variable."""
@@ -56,7 +51,7 @@ class Checker:
         """Return whether a value is a tuple of one of these words and two atoms."""
         if not isinstance(value, tuple) or len(value) != 3:
             return False
-        return is_word_of(value[0], words) and self.is_atom(value[1]) and self.is_atom(value[2])
+        return value[0] in words and self.is_atom(value[1]) and self.is_atom(value[2])
 
     def is_change(self, name, expression):
         """Return whether a variable can be changed by an expression."""
@@ -72,18 +67,18 @@ class Checker:
 
     def is_called(self, name):
         """Return whether a value is a procedure that a statement may call."""
-        return is_word_of(name, self.names) and name != "main"
+        return name in self.names and name != "main"
 
     def is_simple(self, statement):
         """Return whether a value is a statement without bodies."""
         word = statement[0]
         if len(statement) == 2:
-            return is_word_of(word, CALLS) and self.is_called(statement[1])
+            return word in CALLS and self.is_called(statement[1])
         if len(statement) != 3:
             return False
-        if is_word_of(word, CHANGES):
+        if word in CHANGES:
             return self.is_change(statement[1], statement[2])
-        return is_word_of(word, ("swap",)) and self.is_swap(statement[1], statement[2])
+        return word == "swap" and self.is_swap(statement[1], statement[2])
 
     def check_body(self, body, depth):
         """Raise BadProgram unless a value is a body that may stand at this depth."""
@@ -102,7 +97,7 @@ class Checker:
         """Raise BadProgram unless a value is a statement that may stand in a body of this depth."""
         if not isinstance(statement, tuple) or len(statement) == 0:
             raise BadProgram("a statement is not a tuple that begins with a word")
-        if not is_word_of(statement[0], BRANCHES):
+        if statement[0] not in BRANCHES:
             if not self.is_simple(statement):
                 raise BadProgram("a statement is none of the language")
             return
@@ -139,7 +134,7 @@ class Program:
 
     def body(self, name):
         """Return the body of a procedure."""
-        if not is_word_of(name, self.names):
+        if name not in self.names:
             raise BadProgram("there is no such procedure")
         return self._bodies[name]
 

@@ -19,6 +19,11 @@ FUNCTIONS = {
     "clean": {"answer_of": ["configuration"], "clean": ["machine"], "clean_begin": ["configuration"],
               "clean_end": ["machine", "configuration", "answer"], "clean_steps": ["steps", "marks"],
               "shown": ["machine", "configuration"], "lent": ["configuration"]},
+    "invert": {"inverse_of": ["body"], "inverse_program": ["program"]},
+    "machine": {"answer": ["program", "store", "most"]},
+    "parse": {"text_of": ["program"], "program_of": ["text"]},
+    "nets": {"inverse_net": ["net"], "joined_nets": ["first", "second"], "controlled": ["net", "line"],
+             "simple": ["net"]},
 }
 CLASSES = {
     ("tape", "Tape"): {"__init__": ["marks", "states", "rows"], "row": ["state", "mark"], "table": [],
@@ -31,6 +36,10 @@ CLASSES = {
     ("history", "History"): {"__init__": ["machine"], "down": ["configuration", "past"], "up": ["configuration"],
                              "pace": ["configuration"]},
     ("lang", "Program"): {"__init__": ["width", "variables", "procedures"], "body": ["name"]},
+    ("machine", "Machine"): {"__init__": ["program"], "begin": ["store"], "final": ["store"], "step": ["configuration"],
+                             "back": ["configuration"], "stopped": ["configuration"],
+                             "run": ["configuration", "steps"], "run_back": ["configuration", "steps"]},
+    ("nets", "Net"): {"__init__": ["lines", "gates"], "gates": [], "run": ["bits"], "back": ["bits"]},
 }
 
 

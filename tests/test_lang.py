@@ -56,6 +56,8 @@ class Widths(Case):
     def test_others(self):
         for width in [0, 9, -1, 10, 64, 10 ** 30, True, False, None, "3", (3,), [3]]:
             self.wrong(width=width)
+            with self.assertRaises(BadProgram):
+                Program(width, ("a",), {"main": ()})
 
 
 class Variables(Case):

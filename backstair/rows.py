@@ -75,12 +75,18 @@ def applied(row, configuration):
     return (row[-1], tuple(after))
 
 
-def stepped(places, configuration):
-    """Return the configuration after one step by rows that `by_place` put in order, or None."""
+def row_for(places, configuration):
+    """Return the row that applies to a configuration, of rows that `by_place` put in order, or None."""
     state, tapes = configuration
     row = places.get(state)
     if row is None:
         row = places.get((state, tuple([tape[1] for tape in tapes])))
+    return row
+
+
+def stepped(places, configuration):
+    """Return the configuration after one step by rows that `by_place` put in order, or None."""
+    row = row_for(places, configuration)
     if row is None:
         return None
     return applied(row, configuration)

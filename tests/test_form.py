@@ -24,6 +24,9 @@ FUNCTIONS = {
     "parse": {"text_of": ["program"], "program_of": ["text"]},
     "nets": {"inverse_net": ["net"], "joined_nets": ["first", "second"], "controlled": ["net", "line"],
              "simple": ["net"]},
+    "tables": {"table_net": ["table"], "turned_net": ["table"], "table_of": ["net", "k", "m"]},
+    "straight": {"net_of": ["program"], "bits_of": ["program", "store"], "store_of": ["program", "bits"],
+                 "net_answer": ["program", "store"]},
 }
 CLASSES = {
     ("tape", "Tape"): {"__init__": ["marks", "states", "rows"], "row": ["state", "mark"], "table": [],
@@ -40,6 +43,10 @@ CLASSES = {
                              "back": ["configuration"], "stopped": ["configuration"],
                              "run": ["configuration", "steps"], "run_back": ["configuration", "steps"]},
     ("nets", "Net"): {"__init__": ["lines", "gates"], "gates": [], "run": ["bits"], "back": ["bits"]},
+    ("parts", "Parts"): {"__init__": ["sizes", "changes"], "rule": ["triple"], "source": ["cell"],
+                         "is_configuration": ["value"], "step": ["configuration"], "back": ["configuration"],
+                         "run": ["configuration", "steps"], "run_back": ["configuration", "steps"],
+                         "rows": ["configuration", "steps"]},
 }
 
 

@@ -37,6 +37,17 @@ def tape_step(rows, marks, configuration):
     return (row[2],) + tape_of(places, row[1])
 
 
+def tape_run(machine, configuration, steps):
+    """Return the configurations of a run of at most so many steps of a tape machine."""
+    run = [configuration]
+    while len(run) <= steps:
+        after = tape_step(machine.table(), machine.marks, run[-1])
+        if after is None:
+            break
+        run.append(after)
+    return run
+
+
 def some_tape(rng, marks, longest=4):
     """Return some tape (left, mark, right)."""
     sides = []

@@ -7,7 +7,7 @@ from backstair.clean import answer_of, clean, clean_begin, clean_end, clean_step
 from backstair.inverse import clash
 from backstair.several import Several
 from backstair.tape import Tape
-from tests.oracle import all_tapes, rng_of, some_rows, some_tape, tape_step
+from tests.oracle import all_tapes, rng_of, some_rows, some_tape, tape_run
 
 # Clears ones to the right of it and stops at the first blank, as in [1.7].
 CLEARER = [None, (0, 1, 0)]
@@ -94,17 +94,6 @@ def machines():
     return found
 
 
-def plain_run(machine, configuration, most):
-    """Return the configurations of a run of at most so many steps, by the slow model."""
-    run = [configuration]
-    while len(run) <= most:
-        after = tape_step(machine.table(), machine.marks, run[-1])
-        if after is None:
-            break
-        run.append(after)
-    return run
-
-
 def stopping_runs():
     """Return machines with runs of theirs that begin in state 0 and stop."""
     rng = rng_of(42)
@@ -118,7 +107,7 @@ def stopping_runs():
         if machine in fixed:
             begins += [(0,) + tape for tape in all_tapes(machine.marks, 1)]
         for configuration in begins:
-            run = plain_run(machine, configuration, 40)
+            run = tape_run(machine, configuration, 40)
             if len(run) <= 40:
                 found.append((machine, run))
     return found
@@ -298,13 +287,13 @@ class Runs(unittest.TestCase):
         # Goes to the right through all states and marks, and stops in the last state.
         rows = [((a + 1) % 8, 1, q + 1) if q < 39 else None for q in range(40) for a in range(8)]
         machine = Tape(8, 40, rows)
-        self.check(machine, plain_run(machine, machine.begin(tuple(at % 8 for at in range(60))), 100))
+        self.check(machine, tape_run(machine, machine.begin(tuple(at % 8 for at in range(60))), 100))
 
     def test_states_other_than_0_begin_in_state_0(self):
         machine = Tape(2, 2, COUNTER)
         configuration = (1, (1, 1), 0, (1,))
         self.assertEqual(clean(machine).run(clean_begin(configuration), 2)[0][0], 1 + 2 + 0)
-        run = plain_run(machine, (0,) + configuration[1:], 50)
+        run = tape_run(machine, (0,) + configuration[1:], 50)
         end = clean_end(machine, configuration, marks_from(run[-1]))
         many = clean_steps(len(run) - 1, len(marks_from(run[-1])))
         self.assertEqual(clean(machine).run(clean_begin(configuration), 10 ** 4), (end, many))
@@ -334,7 +323,7 @@ class Endless(unittest.TestCase):
     def test_machines_that_do_not_stop(self):
         for machine in [Tape(2, 1, [(1, 1, 0), (1, 1, 0)]), Tape(2, 2, [(1, 1, 1), (0, -1, 1), (0, -1, 0), (1, 1, 0)]),
                         Tape(3, 1, [(2, -1, 0), (0, 1, 0), None])]:
-            run = plain_run(machine, machine.begin(()), 100)
+            run = tape_run(machine, machine.begin(()), 100)
             self.assertEqual(len(run), 101)
             found = clean(machine)
             configuration = clean_begin(run[0])

@@ -1,6 +1,7 @@
 """The interface, and what can be counted of the form of the package's files."""
 
 import ast
+import importlib
 import pathlib
 import unittest
 
@@ -27,6 +28,9 @@ FUNCTIONS = {
     "tables": {"table_net": ["table"], "turned_net": ["table"], "table_of": ["net", "k", "m"]},
     "straight": {"net_of": ["program"], "bits_of": ["program", "store"], "store_of": ["program", "bits"],
                  "net_answer": ["program", "store"]},
+    "flystair": {"past": ["stair", "line"]},
+    "blocks": {"inverse_blocks": ["machine"], "balls": [], "keeps": ["machine"], "turned_about": ["configuration"]},
+    "film": {"parted": ["machine", "first", "second", "steps"], "lost": ["machine", "configuration", "steps"]},
 }
 CLASSES = {
     ("tape", "Tape"): {"__init__": ["marks", "states", "rows"], "row": ["state", "mark"], "table": [],
@@ -47,6 +51,15 @@ CLASSES = {
                          "is_configuration": ["value"], "step": ["configuration"], "back": ["configuration"],
                          "run": ["configuration", "steps"], "run_back": ["configuration", "steps"],
                          "rows": ["configuration", "steps"]},
+    ("partstair", "PartStair"): {"__init__": ["machine"], "down": ["configuration"], "up": ["configuration"],
+                                 "pace": ["configuration"]},
+    ("flystair", "FlyStair"): {"__init__": ["machine"], "down": ["configuration"], "up": ["configuration"],
+                               "pace": ["configuration"], "memories": ["configuration"]},
+    ("blocks", "Blocks"): {"__init__": ["values"], "is_configuration": ["value"], "step": ["configuration"],
+                           "back": ["configuration"], "run": ["configuration", "steps"],
+                           "run_back": ["configuration", "steps"]},
+    ("film", "Film"): {"__init__": ["machine"], "start": ["word"], "shown": ["line"], "forward": ["line", "steps"],
+                       "backward": ["line", "steps"], "moments": ["line", "first", "last"], "answer": ["word", "steps"]},
 }
 
 
@@ -90,6 +103,34 @@ class Interface(unittest.TestCase):
         found = defined(tree_of("errors").body, ast.ClassDef)
         for error in ERRORS:
             self.assertIn(error, found)
+
+    def test_all_can_be_imported(self):
+        for name, functions in FUNCTIONS.items():
+            module = importlib.import_module(f"backstair.{name}")
+            for function in functions:
+                self.assertEqual(getattr(module, function).__module__, f"backstair.{name}")
+        for name, known in CLASSES:
+            module = importlib.import_module(f"backstair.{name}")
+            self.assertEqual(getattr(module, known).__module__, f"backstair.{name}")
+            for method in CLASSES[name, known]:
+                self.assertIn(method, vars(getattr(module, known)))
+
+    def test_only_errors_are_raised_that_stand_there(self):
+        for path in sorted(FOLDER.glob("*.py")):
+            for part in ast.walk(ast.parse(path.read_text(encoding="ascii"))):
+                if isinstance(part, ast.Raise):
+                    self.assertIn(part.exc.func.id, ERRORS[1:], path.name)
+                if isinstance(part, ast.ClassDef) and part.bases:
+                    self.assertEqual(path.name, "errors.py")
+
+    def test_nothing_from_outside_is_used(self):
+        for path in sorted(FOLDER.glob("*.py")):
+            for part in ast.walk(ast.parse(path.read_text(encoding="ascii"))):
+                if isinstance(part, (ast.Import, ast.ImportFrom)):
+                    self.assertIsInstance(part, ast.ImportFrom)
+                    self.assertTrue(part.module.startswith("backstair."), path.name)
+                if isinstance(part, ast.Name):
+                    self.assertNotIn(part.id, ["open", "input", "print", "hash", "id", "exec", "eval", "__import__"])
 
 
 class Form(unittest.TestCase):

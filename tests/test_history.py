@@ -9,7 +9,7 @@ from backstair.history import History, past_of, trail, undone
 from backstair.inverse import clash
 from backstair.several import Several
 from backstair.tape import Tape
-from tests.oracle import ODD, all_tapes, rng_of, some_rows, some_tape, tape_step
+from tests.oracle import ODD, all_tapes, rng_of, some_rows, some_tape, tape_run, tape_step
 
 # Clears ones to the right of it and stops at the first blank, as in [1.7].
 CLEARER = [None, (0, 1, 0)]
@@ -72,17 +72,6 @@ def pairs_of(machine):
 def pasts(machine, longest):
     """Return all tuples of at most so many pairs."""
     return [past for many in range(longest + 1) for past in itertools.product(pairs_of(machine), repeat=many)]
-
-
-def some_run(machine, configuration, steps):
-    """Return the configurations of a run of at most so many steps, by the slow model."""
-    run = [configuration]
-    while len(run) <= steps:
-        after = tape_step(machine.table(), machine.marks, run[-1])
-        if after is None:
-            break
-        run.append(after)
-    return run
 
 
 class Lower(unittest.TestCase):
@@ -222,7 +211,7 @@ class Steps(unittest.TestCase):
             machine = Tape(marks, states, some_rows(rng, marks, states, 100))
             stair = History(machine)
             configuration = (rng.randrange(states),) + some_tape(rng, marks)
-            run = some_run(machine, configuration, 100)
+            run = tape_run(machine, configuration, 100)
             past = tuple((c[0], c[2]) for c in run[:-1])
             lower = stair.down(configuration, ())
             for at, upper in enumerate(run):
@@ -321,7 +310,7 @@ class Trail(unittest.TestCase):
         for marks, states in [(2, 2), (3, 3), (8, 40), (2, 40), (8, 2)]:
             machine = Tape(marks, states, some_rows(rng, marks, states, 50))
             for _ in range(5):
-                run = some_run(machine, (rng.randrange(states),) + some_tape(rng, marks), 60)
+                run = tape_run(machine, (rng.randrange(states),) + some_tape(rng, marks), 60)
                 past = tuple((c[0], c[2]) for c in run[:-1])
                 found = trail(machine, run[-1], past)
                 self.assertEqual(found, run)
@@ -334,7 +323,7 @@ class Trail(unittest.TestCase):
         right = wrong = 0
         for machine in small_machines():
             for configuration in configurations(machine, 1):
-                run = some_run(machine, configuration, 5)
+                run = tape_run(machine, configuration, 5)
                 past = tuple((c[0], c[2]) for c in run[:-1])
                 self.assertTrue(self.check(machine, run[-1], past))
                 others = [past[:at] + past[at + 1:] for at in range(len(past))]
@@ -388,7 +377,7 @@ class PastOf(unittest.TestCase):
         for marks, states in [(2, 2), (3, 3), (8, 40), (2, 40)]:
             machine = Tape(marks, states, some_rows(rng, marks, states, 20))
             for _ in range(5):
-                run = some_run(machine, (rng.randrange(states),) + some_tape(rng, marks), 40)
+                run = tape_run(machine, (rng.randrange(states),) + some_tape(rng, marks), 40)
                 past = tuple((c[0], c[2]) for c in run[:-1])
                 for many in (0, 1, 2, len(past) - 1, len(past), len(past) + 1, 100):
                     if 0 <= many <= 40:
